@@ -1,0 +1,1 @@
+"""Scenes of moving things, called at any moment: what can be seen at all."""

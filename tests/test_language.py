@@ -1,0 +1,90 @@
+"""Some of the rules for the files of the package that can be seen in their text."""
+
+import ast
+import builtins
+import os
+import unittest
+
+FOLDER = os.path.join(os.path.dirname(os.path.dirname(os.path.abspath(__file__))), "calledmidway")
+LIBRARY = {
+    "math": {"gcd", "lcm", "isqrt", "comb", "perm", "factorial"},
+    "heapq": {"heappush", "heappop", "heapify", "heapreplace", "heappushpop"},
+    "itertools": {"product", "combinations", "permutations", "chain", "accumulate", "pairwise", "islice",
+                  "zip_longest"},
+    "collections": {"defaultdict", "deque"},
+}
+BUILTINS = set("""
+    len range enumerate zip min max sum abs sorted reversed int str bool bytes list tuple dict set frozenset isinstance
+    ord repr any all divmod pow getattr hasattr setattr iter next map type super property staticmethod classmethod
+    Exception ValueError TypeError KeyError IndexError LookupError ZeroDivisionError ArithmeticError OverflowError
+    RuntimeError NotImplementedError AttributeError StopIteration NotImplemented object
+""".split())
+
+
+def texts():
+    found = {}
+    for name in sorted(os.listdir(FOLDER)):
+        if name != "__pycache__":
+            with open(os.path.join(FOLDER, name), "rb") as file:
+                found[name] = file.read()
+    return found
+
+
+class LanguageTest(unittest.TestCase):
+    def setUp(self):
+        self.texts = texts()
+        self.trees = {name: ast.parse(text) for name, text in self.texts.items()}
+
+    def test_the_folder_contains_plain_files_of_python_only(self):
+        self.assertIn("__init__.py", self.texts)
+        for name in self.texts:
+            stem = name.removesuffix(".py")
+            self.assertTrue(name.endswith(".py") and stem.isidentifier() and stem == stem.lower(), name)
+
+    def test_characters_and_sizes(self):
+        for name, text in self.texts.items():
+            self.assertLessEqual(set(text), set(range(32, 127)) | {10}, name)
+            lines = text.decode("ascii").split("\n")
+            self.assertLessEqual(len(lines), 400, name)
+            self.assertLessEqual(max(len(line) for line in lines), 120, name)
+
+    def test_functions_have_at_most_forty_lines(self):
+        for name, tree in self.trees.items():
+            for node in ast.walk(tree):
+                if isinstance(node, ast.FunctionDef):
+                    self.assertLessEqual(node.end_lineno - node.lineno + 1, 40, (name, node.name))
+
+    def test_imports(self):
+        for name, tree in self.trees.items():
+            for node in ast.walk(tree):
+                self.assertNotIsInstance(node, ast.Import, name)
+                if isinstance(node, ast.ImportFrom):
+                    self.assertEqual(node.level, 0, name)
+                    names = {alias.name for alias in node.names}
+                    own = node.module.removeprefix("calledmidway.") + ".py"
+                    if own in self.trees:
+                        made = {x.name for x in self.trees[own].body if hasattr(x, "name")}
+                        made |= {t.id for x in self.trees[own].body if isinstance(x, ast.Assign) for t in x.targets}
+                        self.assertLessEqual(names, made, name)
+                    else:
+                        self.assertLessEqual(names, LIBRARY.get(node.module, set()), (name, node.module))
+
+    def test_builtins_are_of_the_subset_and_keep_their_meaning(self):
+        for name, tree in self.trees.items():
+            for node in ast.walk(tree):
+                if isinstance(node, ast.Name) and hasattr(builtins, node.id):
+                    self.assertIn(node.id, BUILTINS, (name, node.lineno))
+                    self.assertIsInstance(node.ctx, ast.Load, (name, node.lineno))
+                if isinstance(node, ast.arg):
+                    self.assertFalse(hasattr(builtins, node.arg), (name, node.arg))
+
+    def test_no_floats_and_no_division(self):
+        for name, tree in self.trees.items():
+            for node in ast.walk(tree):
+                self.assertNotIsInstance(node, ast.Div, name)
+                if isinstance(node, ast.Constant):
+                    self.assertNotIsInstance(node.value, (float, complex), name)
+
+
+if __name__ == "__main__":
+    unittest.main()

@@ -1,0 +1,36 @@
+"""Values of every kind, for tests of what is refused."""
+
+from calledmidway.forms import Form
+from calledmidway.ratios import Ratio
+
+
+class Other:
+    """A class that the package does not know."""
+
+
+NO_NUMBERS = [
+    True, False, None, "", "1", "d", "1/2", b"", b"1", [], [1], (), (1,), (1, 2), {}, {"d": 1},
+    set(), frozenset([1]), Form(), Form(None, 1), Form.of("d"), Other(), Other, int, Ratio, len,
+]
+NUMBERS = [
+    0, 1, -1, 7, -12, 10 ** 30, -(10 ** 30) - 1,
+    Ratio(0), Ratio(1), Ratio(-1, 2), Ratio(2, 3), Ratio(10 ** 30, 7),
+]
+NAMES = ["a", "z", "d", "drawer", "abcdefgh", "zzzzzzzz"]
+NO_NAMES = [
+    "", "abcdefghi", "A", "aB", "Abc", "a1", "1", "a b", " a", "a ", " ", "a_b", "_", "a-b", "a.b",
+    "a\n", "\na", "a\nb", "\n", "abcdefgh\n", "`", "{", "@", "[", "\u00e4", "\u00df", "\u0431", "\u00aa", "a\u0301",
+    "a" * 100, b"a", b"", 0, 1, True, False, None, [], ["a"], (), ("a",), {}, {"a": 1},
+    set(), frozenset(["a"]), Ratio(1), Form(), Form.of("a"), Other(), Other, str,
+]
+
+
+def told(action, error):
+    """Return the error of just this class that the action raises."""
+    try:
+        action()
+    except Exception as found:
+        if found.__class__ is not error:
+            raise AssertionError(f"{found!r} in the place of {error.__name__}") from found
+        return found
+    raise AssertionError(f"no {error.__name__}")
