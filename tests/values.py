@@ -34,3 +34,19 @@ def told(action, error):
             raise AssertionError(f"{found!r} in the place of {error.__name__}") from found
         return found
     raise AssertionError(f"no {error.__name__}")
+
+
+NO_LISTS = [
+    True, False, None, 0, 1, "", "d", "open", b"", b"d", {}, {"d": 1}, {"open": "shut"}, set(), {"d"},
+    frozenset(["d"]), Ratio(0), Ratio(1, 2), Form(), Form.of("d"), Other(), Other, list, len,
+]
+NO_TIMES = [value for value in NO_NUMBERS] + [-1, Ratio(-1, 10 ** 30), -(10 ** 30)]
+NO_FORMS = [value for value in NO_NUMBERS if not isinstance(value, Form)] + [0, 1, Ratio(1, 2)]
+
+
+def no_names_of(names):
+    """Values that are none of the names: those of other kinds, names near them, and tuples and lists of them."""
+    near = ["", "x", "nowhere", names[0] + "x", names[0].upper(), " " + names[0], names[0][:-1], names[0].encode()]
+    more = [tuple(names), (names[0],), (names[0], names[0]), [names[0]], {names[0]: 1}, {names[0]}]
+    return [value for value in near + more + NO_NUMBERS + [0, 1, Ratio(1)] if not (
+        value.__class__ is str and value in names)]
