@@ -32,6 +32,15 @@ def as_ratio(value):
     return Ratio(value)
 
 
+def greatest_of(numbers):
+    """Return the greatest one of a list of Ratios."""
+    best = numbers[0]
+    for number in numbers:
+        if best.is_below(number):
+            best = number
+    return best
+
+
 class Ratio:
     """A rational number in lowest terms, with a bottom that is at least 1."""
 

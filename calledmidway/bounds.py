@@ -1,0 +1,119 @@
+"""Bounds: the greatest and the least values that are ever seen, and runs that show them."""
+
+from calledmidway.books import check_book
+from calledmidway.checks import check_form
+from calledmidway.corners import key_of
+from calledmidway.motions import bends_of, pace_from
+from calledmidway.parts import check_scene
+from calledmidway.ratios import as_ratio, greatest_of
+from calledmidway.runs import Run, crossing
+from calledmidway.summits import best_of, calls_up, summits
+
+
+def _check(book, form):
+    check_book(book)
+    check_form(book, form)
+
+
+def _summit(book, form):
+    """Return the best summit of a form, whatever scene is on."""
+    found = summits(book, form)
+    return best_of([found[scene, key_of(form)] for scene in book.reached()])
+
+
+def greatest(book, form):
+    """Return the greatest value of a form."""
+    _check(book, form)
+    value, _, _ = _summit(book, form)
+    return value + form.number
+
+
+def least(book, form):
+    """Return the least value of a form."""
+    _check(book, form)
+    return -greatest(book, -form)
+
+
+def span(book, form):
+    """Return the tuple of the least and the greatest value of a form."""
+    return least(book, form), greatest(book, form)
+
+
+def keeps(book, form, bound):
+    """Tell whether the greatest value of a form is at most the bound."""
+    _check(book, form)
+    limit = as_ratio(bound)
+    return not limit.is_below(greatest(book, form))
+
+
+def peak(book, form):
+    """Return a run at whose end a form has its greatest value, with the fewest calls that count."""
+    _check(book, form)
+    found = summits(book, form)
+    key = key_of(form)
+    best = best_of([found[scene, key] for scene in book.reached()])
+    tops = [scene for scene in book.reached() if found[scene, key] == best]
+    return Run(book, calls_up(book, found, tops[0], key))
+
+
+def is_peak(book, form, value):
+    """Tell whether any value is a run of an equal book that is a peak of a form."""
+    _check(book, form)
+    if not isinstance(value, Run) or value.book != book:
+        return False
+    return value.counting() <= len(form) and form(value.end()) == greatest(book, form)
+
+
+def fewest(book, form):
+    """Return the least number of calls that count with which the greatest value of a form is seen."""
+    _check(book, form)
+    _, count, _ = _summit(book, form)
+    return count
+
+
+def run_to_value(book, form, value):
+    """Return a run at whose end a form has just this value, or None if it is not seen."""
+    _check(book, form)
+    wanted = as_ratio(value)
+    if wanted.is_below(form(book.goals(book.first))):
+        return run_to_value(book, -form, -wanted)
+    run = peak(book, form)
+    moment = crossing(run, form, wanted)
+    if moment is None:
+        return None
+    return run.cut(moment)
+
+
+def _greatest_when_called(book, scene, form):
+    """Return the greatest value of a form when a scene is called that has callers."""
+    found = summits(book, form)
+    rows = []
+    for caller in book.callers(scene):
+        if caller in book.resting:
+            rows.append(form(book.goals(caller)))
+        else:
+            value, _, _ = found[caller, key_of(form)]
+            rows.append(value + form.number)
+    return greatest_of(rows)
+
+
+def greatest_at_calls(book, scene, form):
+    """Return the greatest value of a form at the moments at which a scene is called, or None if it never is."""
+    check_book(book)
+    check_scene(book.scenes(), scene)
+    check_form(book, form)
+    if len(book.callers(scene)) == 0:
+        return None
+    return _greatest_when_called(book, scene, form)
+
+
+def pace_span(book, scene, form):
+    """Return the tuple of the least and the greatest pace of a form behind calls of a scene, or None."""
+    check_book(book)
+    check_scene(book.scenes(), scene)
+    check_form(book, form)
+    if len(book.callers(scene)) == 0:
+        return None
+    paces = [pace_from(book, scene, since, form) for since in [0, *bends_of(book, scene, form)]]
+    low = greatest_of([_greatest_when_called(book, scene, -pace) for pace in paces])
+    return -low, greatest_of([_greatest_when_called(book, scene, pace) for pace in paces])

@@ -1,0 +1,66 @@
+"""Corners: what becomes of a form when a scene is called, and at which waits it bends."""
+
+from calledmidway.books import check_book
+from calledmidway.checks import as_time, check_form
+from calledmidway.motions import bends_of, pace_from, passed_form, passings_of
+from calledmidway.parts import check_scene
+
+
+def _check(book, scene):
+    check_book(book)
+    check_scene(book.scenes(), scene)
+
+
+def bends(book, scene, form):
+    """Return the sorted list of the bends of a form in a scene."""
+    _check(book, scene)
+    check_form(book, form)
+    return bends_of(book, scene, form)
+
+
+def passed(book, scene, wait, form):
+    """Return the form passed through a scene by a wait."""
+    _check(book, scene)
+    time = as_time(wait)
+    check_form(book, form)
+    return passed_form(book, scene, time, form)
+
+
+def pace_form(book, scene, form, since=0):
+    """Return the pace form of a form in a scene from a time."""
+    _check(book, scene)
+    check_form(book, form)
+    return pace_from(book, scene, as_time(since), form)
+
+
+def passings(book, scene, form):
+    """Yield the tuples of a wait, 0 or a bend, and of the form passed by it."""
+    _check(book, scene)
+    check_form(book, form)
+    for row in passings_of(book, scene, form):
+        yield row
+
+
+def key_of(form):
+    """Return a tuple that is equal just for forms with equal weights."""
+    weights = form.weights()
+    return tuple([(thing, weights[thing].top, weights[thing].bottom) for thing in weights])
+
+
+def forms_below(book, form):
+    """Return the list of the forms below a form, in the sequence in which they are found."""
+    check_book(book)
+    check_form(book, form)
+    rows = [form.pure()]
+    found = {key_of(form): True}
+    # Rows are added behind while they are gone through.
+    position = 0
+    while position < len(rows):
+        for scene in book.reached():
+            for bend in bends_of(book, scene, rows[position]):
+                below = passed_form(book, scene, bend, rows[position]).pure()
+                if key_of(below) not in found:
+                    found[key_of(below)] = True
+                    rows.append(below)
+        position = position + 1
+    return rows

@@ -1,0 +1,57 @@
+"""Lead-ins: how scenes are reached from the first one."""
+
+from calledmidway.books import check_book
+from calledmidway.parts import check_scene
+from calledmidway.runs import Run
+
+
+def _lead_ins(book):
+    """Return a dict from the reached scenes to their lead-ins."""
+    found = {book.first: []}
+    rows = [book.first]
+    # The rows come in the sequence of their lead-ins, so the first one found for a scene is the least.
+    position = 0
+    while position < len(rows):
+        one = rows[position]
+        for scene in book.scenes():
+            if scene not in found and (one, scene) in book:
+                found[scene] = [*found[one], scene]
+                rows.append(scene)
+        position = position + 1
+    return found
+
+
+def lead_in(book, scene):
+    """Return the least of the shortest lists of scenes that lead to a scene, or None."""
+    check_book(book)
+    check_scene(book.scenes(), scene)
+    return _lead_ins(book).get(scene)
+
+
+def lead_run(book, scene):
+    """Return the run that calls the lead-in, each scene with its longest length as the wait, or None."""
+    scenes = lead_in(book, scene)
+    if scenes is None:
+        return None
+    return Run(book, [(name, book.longest(name)) for name in scenes])
+
+
+def quick_lead(book, scene):
+    """Return calls that lead to a reached scene, of which none counts; if it is resting, it comes to rest."""
+    resting = book.resting
+    return [(name, book.longest(name) if name in resting else 0) for name in lead_in(book, scene)]
+
+
+def idle_scenes(book):
+    """Return the sorted list of the scenes that are not reached."""
+    check_book(book)
+    reached = book.reached()
+    return [scene for scene in book.scenes() if scene not in reached]
+
+
+def can_follow(book, one, other):
+    """Tell whether an arrow leads from a reached scene to another one."""
+    check_book(book)
+    check_scene(book.scenes(), one)
+    check_scene(book.scenes(), other)
+    return (one, other) in book and one in book.reached()
