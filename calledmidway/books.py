@@ -85,12 +85,12 @@ class Book:
     def goals(self, scene):
         """Return the place of the goals of a scene."""
         check_scene(self._motions, scene)
-        return {thing: Ratio(self.goal(scene, thing)) for thing in self._things}
+        return {thing: Ratio(goal) for thing, (goal, _) in self._motions[scene].items()}
 
     def longest(self, scene):
         """Return the greatest length of a scene."""
         check_scene(self._motions, scene)
-        return max([self.length(scene, thing) for thing in self._things])
+        return max([length for _, length in self._motions[scene].values()])
 
     def reached(self):
         """Return the sorted list of the scenes that can be on in some run."""

@@ -56,9 +56,10 @@ def forms_below(book, form):
     # Rows are added behind while they are gone through.
     position = 0
     while position < len(rows):
+        above = rows[position]
         for scene in book.reached():
-            for bend in bends_of(book, scene, rows[position]):
-                below = passed_form(book, scene, bend, rows[position]).pure()
+            for bend in bends_of(book, scene, above):
+                below = passed_form(book, scene, bend, above).pure()
                 if key_of(below) not in found:
                     found[key_of(below)] = True
                     rows.append(below)

@@ -9,7 +9,6 @@ the same is to be seen at the call, or None if it is enough that the caller is o
 from calledmidway.corners import forms_below, key_of
 from calledmidway.leadins import quick_lead
 from calledmidway.motions import passings_of
-from calledmidway.ratios import Ratio
 
 
 def _is_better(one, other):
@@ -53,7 +52,8 @@ def _spread(book, rows, key):
     resting = book.resting
     arrows = [(one, other) for one, other in book.arrows() if one in rows and one not in resting]
     # A way of such calls that is worth while comes to no scene twice.
-    for _ in range(len(rows)):
+    rounds = len(rows)
+    for _ in range(rounds):
         for one, other in arrows:
             value, count, _ = rows[one]
             rows[other] = best_of([rows[other], (value, count, (one, 0, key))])

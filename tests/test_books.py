@@ -1,3 +1,4 @@
+import copy
 import itertools
 import unittest
 
@@ -9,7 +10,7 @@ from calledmidway.errors import (
 from calledmidway.forms import Form
 from calledmidway.ratios import Ratio
 from tests.model import SCENES, Model, example_book, random_generator, random_model
-from tests.values import NO_LISTS, NO_NAMES, NO_NUMBERS, Other, no_names_of, told
+from tests.values import NO_LISTS, NO_NAMES, NO_NUMBERS, Like, Other, no_names_of, told
 
 BIG = 123456789012345678901234567890
 THINGS = ["l", "d", "v"]
@@ -35,7 +36,8 @@ def wide_book(resting=("zoom", "idle")):
 def all_told(book):
     """Everything that a book tells."""
     scenes, things = book.scenes(), book.things()
-    return [
+    # A copy, which stays when what the book has returned is changed.
+    return copy.deepcopy([
         things, scenes, book.arrows(), book.first, book.resting, len(book), repr(book), book.reached(),
         [[book.goal(scene, thing) for thing in things] for scene in scenes],
         [[book.length(scene, thing) for thing in things] for scene in scenes],
@@ -43,7 +45,7 @@ def all_told(book):
         [book.callers(scene) for scene in scenes],
         [pair for pair in itertools.product(scenes, scenes) if pair in book],
         [scene for scene in scenes if scene in book],
-    ]
+    ])
 
 
 class MadeTest(unittest.TestCase):
@@ -209,6 +211,10 @@ class InTest(unittest.TestCase):
             ("open", ["zoom"]), ("open", {}), ({}, []), ("open", None), "d", ("d", "l"), ("open", "d"), book, Book,
         ]:
             self.assertIs(value in book, False)
+        for value in (Like(), ("open", Like()), (Like(), Like())):
+            self.assertIs(value in book, False)
+            self.assertIs(told(lambda: book - value, UnknownArrow).value, value)
+            self.assertIs(told(lambda: book + value, InvalidArrow).value, value)
 
 
 RIGHT = {"things": ["d", "l"], "scenes": SCENES, "arrows": [("open", "shut"), ("shut", "open")], "first": "shut",

@@ -266,6 +266,18 @@ class PeakTest(unittest.TestCase):
                              (Ratio(9), 0 if "e" in resting else 1))
             self.assertEqual([scene for scene, _ in run.calls()], ["b", "c", "e"])
 
+    def test_a_long_way_of_calls_with_the_wait_0(self):
+        for names in ("abcefg", "gfecba", "ecbgaf"):
+            scenes = {name: {"d": (0, 2), "l": (0, 2)} for name in names}
+            scenes[names[0]] = {"d": (100, 1), "l": (100, 1)}
+            scenes[names[-1]] = {"d": (0, 1000), "l": (0, 1)}
+            for resting in ([], [names[0]]):
+                book = Book(["d", "l"], scenes, list(zip(names, names[1:])), names[0], resting)
+                run = self.assert_peak(book, GAP)
+                self.assertEqual((greatest(book, GAP), fewest(book, GAP)), (Ratio(999, 10), 1))
+                self.assertEqual(run.calls(), [(name, Ratio(1 if name == names[-1] else 0)) for name in names[1:]])
+                self.assertEqual(greatest_at_calls(book, names[-1], Form.of("d")), Ratio(100))
+
     def test_more_calls_that_count(self):
         book = Book(["d", "l", "v"], STAIRS, list(itertools.product(STAIRS, STAIRS)), "a")
         expected = {}

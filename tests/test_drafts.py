@@ -1,3 +1,4 @@
+import copy
 import itertools
 import unittest
 
@@ -10,7 +11,7 @@ from calledmidway.errors import (
 from calledmidway.ratios import Ratio
 from tests.model import example_book, random_generator, random_model
 from tests.test_books import BIG, NO_MOTIONS, attribute
-from tests.values import NO_LISTS, NO_NAMES, Other, no_names_of, told
+from tests.values import NO_LISTS, NO_NAMES, Like, Other, no_names_of, told
 
 NO_PAIRS = NO_LISTS + ["open", "on", ["on", "d"], ("on",), (), ("on", "d", "l"), (("on", "d"),), slice(1, 2), 7]
 
@@ -33,7 +34,10 @@ def started():
 def told_all(draft):
     """Everything that a draft tells."""
     motions = {(scene, thing): draft[scene, thing] for scene in draft.scenes() for thing in draft.things()}
-    return [draft.things(), draft.scenes(), motions, draft.arrows(), draft.first_scene, draft.resting_scenes]
+    # A copy, which stays when what the draft has returned is changed.
+    return copy.deepcopy(
+        [draft.things(), draft.scenes(), motions, draft.arrows(), draft.first_scene, draft.resting_scenes]
+    )
 
 
 def steps_back(draft):
@@ -260,7 +264,7 @@ class ChangesTest(unittest.TestCase):
         before = steps_back(draft)
         for value in NO_LISTS + [
             [], ["on", "on"], ("on",), (), ("on", "on", "on"), ("on", "new"), ("new", "on"), ("d", "l"), (["on"], "on"),
-            ("on", {}), "on", ("On", "off"), draft,
+            ("on", {}), "on", ("On", "off"), draft, Like(), ("on", Like()),
         ]:
             self.assertIs(told(lambda: added(draft, value), InvalidArrow).value, value)
             self.assertIs(told(lambda: taken(draft, value), UnknownArrow).value, value)

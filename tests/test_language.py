@@ -78,6 +78,62 @@ class LanguageTest(unittest.TestCase):
                 if isinstance(node, ast.arg):
                     self.assertFalse(hasattr(builtins, node.arg), (name, node.arg))
 
+    def test_names_of_imports_and_classes_have_no_second_meaning(self):
+        for name, tree in self.trees.items():
+            taken = {node.name for node in ast.walk(tree) if isinstance(node, ast.ClassDef)}
+            for node in tree.body:
+                if isinstance(node, ast.ImportFrom):
+                    taken |= {alias.name for alias in node.names}
+            for node in ast.walk(tree):
+                if isinstance(node, ast.Name) and isinstance(node.ctx, ast.Store):
+                    self.assertNotIn(node.id, taken, (name, node.lineno))
+                if isinstance(node, ast.arg):
+                    self.assertNotIn(node.arg, taken, (name, node.lineno))
+                if isinstance(node, ast.FunctionDef):
+                    self.assertNotIn(node.name, taken, (name, node.lineno))
+
+    def test_all_that_is_imported_is_used(self):
+        for name, tree in self.trees.items():
+            used = {node.id for node in ast.walk(tree) if isinstance(node, ast.Name)}
+            for node in tree.body:
+                if isinstance(node, ast.ImportFrom):
+                    self.assertLessEqual({alias.name for alias in node.names}, used, name)
+
+    def test_no_two_files_import_from_each_other(self):
+        into = {}
+        for name, tree in self.trees.items():
+            modules = [node.module for node in tree.body if isinstance(node, ast.ImportFrom)]
+            into[name] = {module.removeprefix("calledmidway.") + ".py" for module in modules} & set(self.trees)
+        while into:
+            ready = [name for name in into if not into[name]]
+            self.assertTrue(ready, sorted(into))
+            into = {name: into[name] - set(ready) for name in into if name not in ready}
+
+    def test_statements_and_decorators_are_of_the_subset(self):
+        barred = (ast.AsyncFunctionDef, ast.AsyncFor, ast.AsyncWith, ast.Await)
+        for name, tree in self.trees.items():
+            for node in ast.walk(tree):
+                self.assertNotIsInstance(node, barred, (name, getattr(node, "lineno", None)))
+                for decorator in getattr(node, "decorator_list", []):
+                    text = ast.unparse(decorator)
+                    self.assertTrue(text in ("property", "classmethod") or text.endswith(".setter"), (name, text))
+
+    def test_properties_methods_and_attributes_have_names_of_their_own(self):
+        properties, methods, attributes = set(), set(), set()
+        for tree in self.trees.values():
+            for node in ast.walk(tree):
+                if isinstance(node, ast.ClassDef):
+                    for part in node.body:
+                        if isinstance(part, ast.FunctionDef):
+                            (properties if "property" in map(ast.unparse, part.decorator_list) or any(
+                                ast.unparse(one).endswith(".setter") for one in part.decorator_list
+                            ) else methods).add(part.name)
+                if isinstance(node, ast.Attribute) and isinstance(node.ctx, ast.Store):
+                    attributes.add(node.attr)
+        self.assertEqual(properties & methods, set())
+        self.assertEqual(methods & attributes, set())
+        self.assertEqual(properties & attributes, set())
+
     def test_no_floats_and_no_division(self):
         for name, tree in self.trees.items():
             for node in ast.walk(tree):

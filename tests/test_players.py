@@ -1,3 +1,4 @@
+import copy
 import unittest
 from fractions import Fraction
 
@@ -15,7 +16,8 @@ from tests.values import NO_LISTS, NO_TIMES, Other, no_names_of, told
 
 def told_all(player):
     """Everything that a player tells."""
-    return [player.scene, player.place, player.moment, player.run()]
+    # A copy, which stays when what the player has returned is changed.
+    return copy.deepcopy([player.scene, player.place, player.moment, player.run()])
 
 
 def started():

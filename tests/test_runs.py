@@ -1,3 +1,4 @@
+import copy
 import itertools
 import unittest
 from fractions import Fraction
@@ -30,11 +31,12 @@ THREE = Model(
 def all_told(run):
     """Everything that a run tells, by itself and at some moments."""
     moments = [run.lasts * Ratio(part, 7) for part in range(8)]
-    return [
+    # A copy, which stays when what the run has returned is changed.
+    return copy.deepcopy([
         run.book, run.calls(), len(run), run.lasts, run.end(), run.counting(), run.begun(), repr(run),
         [(run.at(moment), run.scene_at(moment), run.cut(moment).calls()) for moment in moments],
         run.paces(Form.of(*run.book.things())),
-    ]
+    ])
 
 
 def runs(number, many, most=6):

@@ -8,6 +8,16 @@ class Other:
     """A class that the package does not know."""
 
 
+class Like:
+    """A value that says it is equal to whatever it is compared with."""
+
+    def __eq__(self, other):
+        return True
+
+    def __hash__(self):
+        return 0
+
+
 NO_NUMBERS = [
     True, False, None, "", "1", "d", "1/2", b"", b"1", [], [1], (), (1,), (1, 2), {}, {"d": 1},
     set(), frozenset([1]), Form(), Form(None, 1), Form.of("d"), Other(), Other, int, Ratio, len,
