@@ -2,12 +2,11 @@
 
 from calledmidway.books import check_book
 from calledmidway.checks import check_form
-from calledmidway.corners import key_of
 from calledmidway.motions import bends_of, pace_from
 from calledmidway.parts import check_scene
 from calledmidway.ratios import as_ratio, greatest_of
 from calledmidway.runs import Run, crossing
-from calledmidway.summits import best_of, calls_up, summits
+from calledmidway.summits import summit_of, summits_when_on
 
 
 def _check(book, form):
@@ -15,17 +14,11 @@ def _check(book, form):
     check_form(book, form)
 
 
-def _summit(book, form):
-    """Return the best summit of a form, whatever scene is on."""
-    found = summits(book, form)
-    return best_of([found[scene, key_of(form)] for scene in book.reached()])
-
-
 def greatest(book, form):
     """Return the greatest value of a form."""
     _check(book, form)
-    value, _, _ = _summit(book, form)
-    return value + form.number
+    value, _, _ = summit_of(book, form)
+    return value
 
 
 def least(book, form):
@@ -49,11 +42,8 @@ def keeps(book, form, bound):
 def peak(book, form):
     """Return a run at whose end a form has its greatest value, with the fewest calls that count."""
     _check(book, form)
-    found = summits(book, form)
-    key = key_of(form)
-    best = best_of([found[scene, key] for scene in book.reached()])
-    tops = [scene for scene in book.reached() if found[scene, key] == best]
-    return Run(book, calls_up(book, found, tops[0], key))
+    _, _, calls = summit_of(book, form)
+    return Run(book, calls)
 
 
 def is_peak(book, form, value):
@@ -67,7 +57,7 @@ def is_peak(book, form, value):
 def fewest(book, form):
     """Return the least number of calls that count with which the greatest value of a form is seen."""
     _check(book, form)
-    _, count, _ = _summit(book, form)
+    _, count, _ = summit_of(book, form)
     return count
 
 
@@ -86,15 +76,11 @@ def run_to_value(book, form, value):
 
 def _greatest_when_called(book, scene, form):
     """Return the greatest value of a form when a scene is called that has callers."""
-    found = summits(book, form)
-    rows = []
-    for caller in book.callers(scene):
-        if caller in book.resting:
-            rows.append(form(book.goals(caller)))
-        else:
-            value, _, _ = found[caller, key_of(form)]
-            rows.append(value + form.number)
-    return greatest_of(rows)
+    values = summits_when_on(book, form)
+    # A resting scene is left when it has come to rest.
+    return greatest_of([
+        form(book.goals(caller)) if caller in book.resting else values[caller] for caller in book.callers(scene)
+    ])
 
 
 def greatest_at_calls(book, scene, form):

@@ -17,6 +17,11 @@ def as_time(value):
     return as_ratio(value)
 
 
+def is_form_of(book, value):
+    """Tell whether any value is a Form with things of the book alone."""
+    return isinstance(value, Form) and all([thing in book.things() for thing in value.live()])
+
+
 def check_form(book, form):
     """InvalidForm unless this is a Form; UnknownThing if it has a live thing that the book has not."""
     if not isinstance(form, Form):

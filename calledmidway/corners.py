@@ -1,8 +1,9 @@
 """Corners: what becomes of a form when a scene is called, and at which waits it bends."""
 
 from calledmidway.books import check_book
+from calledmidway.bundles import descent, passings_of
 from calledmidway.checks import as_time, check_form
-from calledmidway.motions import bends_of, pace_from, passed_form, passings_of
+from calledmidway.motions import bends_of, form_by, pace_from, shares_behind
 from calledmidway.parts import check_scene
 
 
@@ -23,7 +24,7 @@ def passed(book, scene, wait, form):
     _check(book, scene)
     time = as_time(wait)
     check_form(book, form)
-    return passed_form(book, scene, time, form)
+    return form_by(book, scene, shares_behind(book, scene, time), form)
 
 
 def pace_form(book, scene, form, since=0):
@@ -37,31 +38,12 @@ def passings(book, scene, form):
     """Yield the tuples of a wait, 0 or a bend, and of the form passed by it."""
     _check(book, scene)
     check_form(book, form)
-    for row in passings_of(book, scene, form):
-        yield row
-
-
-def key_of(form):
-    """Return a tuple that is equal just for forms with equal weights."""
-    weights = form.weights()
-    return tuple([(thing, weights[thing].top, weights[thing].bottom) for thing in weights])
+    for wait, (below,) in passings_of(book, scene, "even", (form,)):
+        yield wait, below
 
 
 def forms_below(book, form):
     """Return the list of the forms below a form, in the sequence in which they are found."""
     check_book(book)
     check_form(book, form)
-    rows = [form.pure()]
-    found = {key_of(form): True}
-    # Rows are added behind while they are gone through.
-    position = 0
-    while position < len(rows):
-        above = rows[position]
-        for scene in book.reached():
-            for bend in bends_of(book, scene, above):
-                below = passed_form(book, scene, bend, above).pure()
-                if key_of(below) not in found:
-                    found[key_of(below)] = True
-                    rows.append(below)
-        position = position + 1
-    return rows
+    return [below for (below,), _ in descent(book, "even", (form,))]

@@ -5,16 +5,19 @@ from calledmidway.parts import check_scene
 from calledmidway.runs import Run
 
 
-def _lead_ins(book):
-    """Return a dict from the reached scenes to their lead-ins."""
-    found = {book.first: []}
-    rows = [book.first]
-    # The rows come in the sequence of their lead-ins, so the first one found for a scene is the least.
+def ways_on(book, start, kept):
+    """Return a dict from the scenes that are led to from a start to the least of the shortest lists that lead there.
+
+    The scenes kept are not left.
+    """
+    found = {start: []}
+    rows = [start]
+    # The rows come in the sequence of their lists, so the first one found for a scene is the least.
     position = 0
     while position < len(rows):
         one = rows[position]
         for scene in book.scenes():
-            if scene not in found and (one, scene) in book:
+            if scene not in found and one not in kept and (one, scene) in book:
                 found[scene] = [*found[one], scene]
                 rows.append(scene)
         position = position + 1
@@ -25,7 +28,7 @@ def lead_in(book, scene):
     """Return the least of the shortest lists of scenes that lead to a scene, or None."""
     check_book(book)
     check_scene(book.scenes(), scene)
-    return _lead_ins(book).get(scene)
+    return ways_on(book, book.first, []).get(scene)
 
 
 def lead_run(book, scene):

@@ -100,9 +100,14 @@ class Run:
         return f"Run({self._book!r}, {self.calls()!r})"
 
 
-def _check_run(run, form):
+def check_run(run):
+    """InvalidRun unless this is a Run."""
     if not isinstance(run, Run):
         raise InvalidRun(run)
+
+
+def _check(run, form):
+    check_run(run)
     check_form(run.book, form)
 
 
@@ -121,7 +126,7 @@ def _course(run, form):
 
 def crossing(run, form, bound):
     """Return the first moment of the run at which the form is at least the bound, or None."""
-    _check_run(run, form)
+    _check(run, form)
     wanted = as_ratio(bound)
     before, low = Ratio(0), None
     for moment, value in _course(run, form):
@@ -135,7 +140,7 @@ def crossing(run, form, bound):
 
 def highest(run, form):
     """Return the tuple of the greatest value during the run and the first moment at which the form has it."""
-    _check_run(run, form)
+    _check(run, form)
     best, first = None, None
     for moment, value in _course(run, form):
         if best is None or best.is_below(value):

@@ -111,6 +111,47 @@ class Model:
                 scene, place = name, self.behind(name, min(wait, moment - start), begun)
         return scene, place
 
+    def by_shares(self, scene, shares, place):
+        """The place behind a call at a place when these shares are gone."""
+        goals = self.goals(scene)
+        return {thing: place[thing] + (goals[thing] - place[thing]) * shares[thing] for thing in self.things}
+
+    def shares(self, scene, wait):
+        lengths = {thing: self.scenes[scene][thing][1] for thing in self.things}
+        return {thing: min(Fraction(1), Fraction(wait) / lengths[thing]) for thing in self.things}
+
+    def are_right(self, scene, kind, shares):
+        """Whether shares, Fractions from 0 to 1 for all things, are right for a kind."""
+        lengths = {thing: self.scenes[scene][thing][1] for thing in self.things}
+        if kind == "even":
+            waits = [shares[thing] * lengths[thing] for thing in self.things] + [self.longest(scene)]
+            return any(shares == self.shares(scene, wait) for wait in waits)
+        if kind == "one":
+            order = sorted(self.things, key=lambda thing: lengths[thing])
+            falling = [shares[thing] for thing in order]
+            equal = {(lengths[thing], shares[thing]) for thing in self.things}
+            return falling == sorted(falling, reverse=True) and len(equal) == len(set(lengths.values()))
+        return True
+
+    def corner_shares(self, scene, kind):
+        """The right shares with 0 and 1 alone, sorted as tuples."""
+        rows = [dict(zip(self.things, row)) for row in itertools.product((0, 1), repeat=len(self.things))]
+        return [row for row in rows if self.are_right(scene, kind, row)]
+
+    def ways(self, scene, kind, things):
+        """The shares of the waits 0 and the lengths of these things, or the corner shares of another kind."""
+        if kind != "even":
+            return self.corner_shares(scene, kind)
+        return [self.shares(scene, wait) for wait in sorted({0} | {self.scenes[scene][thing][1] for thing in things})]
+
+    def passed(self, scene, shares, weights, number):
+        """The weights and the number of a form that is passed by shares."""
+        goals = self.goals(scene)
+        for thing, weight in weights.items():
+            number = number + weight * shares[thing] * goals[thing]
+        kept = {thing: weight * (1 - shares[thing]) for thing, weight in weights.items() if shares[thing] != 1}
+        return kept, number
+
     def counting(self, calls):
         return sum(1 for scene, wait in calls if scene not in self.resting and plain(wait) > 0)
 
