@@ -1,0 +1,103 @@
+"""Changes: what the commands do that change a desk.
+
+What a desk keeps is a dict from names to drafts and forms. It is never changed, and neither are the drafts in it: a
+change returns another dict.
+"""
+
+from calledmidway.drafts import Draft
+from calledmidway.errors import NameTaken, UnknownName
+from calledmidway.forms import Form
+from calledmidway.parts import check_scene
+
+
+def draft_named(kept, name):
+    """Return the draft of a name; UnknownName if there is none."""
+    if name not in kept or not isinstance(kept[name], Draft):
+        raise UnknownName(name)
+    return kept[name]
+
+
+def form_named(kept, name):
+    """Return the form of a name; UnknownName if there is none."""
+    if name not in kept or not isinstance(kept[name], Form):
+        raise UnknownName(name)
+    return kept[name]
+
+
+def _check_free(kept, name):
+    """NameTaken if the name stands for something."""
+    if name in kept:
+        raise NameTaken(name)
+
+
+def _book(kept, words):
+    name, *things = words
+    _check_free(kept, name)
+    return {**kept, name: Draft(things)}
+
+
+def _to(kept, words):
+    name, scene, thing, goal, length = words
+    draft = draft_named(kept, name).copy()
+    draft[scene, thing] = (goal, length)
+    return {**kept, name: draft}
+
+
+def _arrow(kept, words):
+    name, one, other = words
+    draft = draft_named(kept, name).copy()
+    draft += (one, other)
+    return {**kept, name: draft}
+
+
+def _bar(kept, words):
+    name, one, other = words
+    draft = draft_named(kept, name).copy()
+    draft -= (one, other)
+    return {**kept, name: draft}
+
+
+def _first(kept, words):
+    name, scene = words
+    draft = draft_named(kept, name).copy()
+    draft.set_first(scene)
+    return {**kept, name: draft}
+
+
+def _rest(kept, words):
+    name, scene = words
+    draft = draft_named(kept, name).copy()
+    check_scene(draft.scenes(), scene)
+    others = [resting for resting in draft.resting_scenes if resting != scene]
+    draft.set_resting([*others, scene])
+    return {**kept, name: draft}
+
+
+def _form(kept, words):
+    name, *pairs = words
+    _check_free(kept, name)
+    return {**kept, name: Form(dict(zip(pairs[::2], pairs[1::2])))}
+
+
+def _drop(kept, words):
+    name = words[0]
+    if name not in kept:
+        raise UnknownName(name)
+    return {other: kept[other] for other in kept if other != name}
+
+
+CHANGES = {
+    "book": _book, "to": _to, "arrow": _arrow, "bar": _bar, "first": _first, "rest": _rest, "form": _form,
+    "drop": _drop,
+}
+
+
+def is_change(word):
+    """Tell whether the first word of a command is that of a change."""
+    return word in CHANGES
+
+
+def changed(kept, word, words):
+    """Return what is kept behind a change."""
+    change = CHANGES[word]
+    return change(kept, words)
