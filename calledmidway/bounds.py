@@ -1,29 +1,22 @@
 """Bounds: the greatest and the least values that are ever seen, and runs that show them."""
 
-from calledmidway.books import check_book
-from calledmidway.checks import check_form
+from calledmidway.checks import check_book_and_form, check_book_and_scene, check_form
 from calledmidway.motions import bends_of, pace_from
-from calledmidway.parts import check_scene
 from calledmidway.ratios import as_ratio, greatest_of
 from calledmidway.runs import Run, crossing
 from calledmidway.summits import summit_of, summits_when_on
 
 
-def _check(book, form):
-    check_book(book)
-    check_form(book, form)
-
-
 def greatest(book, form):
     """Return the greatest value of a form."""
-    _check(book, form)
+    check_book_and_form(book, form)
     value, _, _ = summit_of(book, form)
     return value
 
 
 def least(book, form):
     """Return the least value of a form."""
-    _check(book, form)
+    check_book_and_form(book, form)
     return -greatest(book, -form)
 
 
@@ -34,21 +27,21 @@ def span(book, form):
 
 def keeps(book, form, bound):
     """Tell whether the greatest value of a form is at most the bound."""
-    _check(book, form)
+    check_book_and_form(book, form)
     limit = as_ratio(bound)
     return not limit.is_below(greatest(book, form))
 
 
 def peak(book, form):
     """Return a run at whose end a form has its greatest value, with the fewest calls that count."""
-    _check(book, form)
+    check_book_and_form(book, form)
     _, _, calls = summit_of(book, form)
     return Run(book, calls)
 
 
 def is_peak(book, form, value):
     """Tell whether any value is a run of an equal book that is a peak of a form."""
-    _check(book, form)
+    check_book_and_form(book, form)
     if not isinstance(value, Run) or value.book != book:
         return False
     return value.counting() <= len(form) and form(value.end()) == greatest(book, form)
@@ -56,14 +49,14 @@ def is_peak(book, form, value):
 
 def fewest(book, form):
     """Return the least number of calls that count with which the greatest value of a form is seen."""
-    _check(book, form)
+    check_book_and_form(book, form)
     _, count, _ = summit_of(book, form)
     return count
 
 
 def run_to_value(book, form, value):
     """Return a run at whose end a form has just this value, or None if it is not seen."""
-    _check(book, form)
+    check_book_and_form(book, form)
     wanted = as_ratio(value)
     if wanted.is_below(form(book.goals(book.first))):
         return run_to_value(book, -form, -wanted)
@@ -85,8 +78,7 @@ def _greatest_when_called(book, scene, form):
 
 def greatest_at_calls(book, scene, form):
     """Return the greatest value of a form at the moments at which a scene is called, or None if it never is."""
-    check_book(book)
-    check_scene(book.scenes(), scene)
+    check_book_and_scene(book, scene)
     check_form(book, form)
     if len(book.callers(scene)) == 0:
         return None
@@ -95,8 +87,7 @@ def greatest_at_calls(book, scene, form):
 
 def pace_span(book, scene, form):
     """Return the tuple of the least and the greatest pace of a form behind calls of a scene, or None."""
-    check_book(book)
-    check_scene(book.scenes(), scene)
+    check_book_and_scene(book, scene)
     check_form(book, form)
     if len(book.callers(scene)) == 0:
         return None

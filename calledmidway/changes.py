@@ -36,43 +36,6 @@ def _book(kept, words):
     return {**kept, name: Draft(things)}
 
 
-def _to(kept, words):
-    name, scene, thing, goal, length = words
-    draft = draft_named(kept, name).copy()
-    draft[scene, thing] = (goal, length)
-    return {**kept, name: draft}
-
-
-def _arrow(kept, words):
-    name, one, other = words
-    draft = draft_named(kept, name).copy()
-    draft += (one, other)
-    return {**kept, name: draft}
-
-
-def _bar(kept, words):
-    name, one, other = words
-    draft = draft_named(kept, name).copy()
-    draft -= (one, other)
-    return {**kept, name: draft}
-
-
-def _first(kept, words):
-    name, scene = words
-    draft = draft_named(kept, name).copy()
-    draft.set_first(scene)
-    return {**kept, name: draft}
-
-
-def _rest(kept, words):
-    name, scene = words
-    draft = draft_named(kept, name).copy()
-    check_scene(draft.scenes(), scene)
-    others = [resting for resting in draft.resting_scenes if resting != scene]
-    draft.set_resting([*others, scene])
-    return {**kept, name: draft}
-
-
 def _form(kept, words):
     name, *pairs = words
     _check_free(kept, name)
@@ -86,18 +49,47 @@ def _drop(kept, words):
     return {other: kept[other] for other in kept if other != name}
 
 
-CHANGES = {
-    "book": _book, "to": _to, "arrow": _arrow, "bar": _bar, "first": _first, "rest": _rest, "form": _form,
-    "drop": _drop,
-}
+def _to(draft, words):
+    scene, thing, goal, length = words
+    draft[scene, thing] = (goal, length)
+
+
+def _arrow(draft, words):
+    draft.add_arrow(tuple(words))
+
+
+def _bar(draft, words):
+    draft.bar_arrow(tuple(words))
+
+
+def _first(draft, words):
+    draft.set_first(words[0])
+
+
+def _rest(draft, words):
+    scene = words[0]
+    check_scene(draft.scenes(), scene)
+    others = [resting for resting in draft.resting_scenes if resting != scene]
+    draft.set_resting([*others, scene])
+
+
+# What changes the names, and what changes the draft of the first name.
+CHANGES = {"book": _book, "form": _form, "drop": _drop}
+EDITS = {"to": _to, "arrow": _arrow, "bar": _bar, "first": _first, "rest": _rest}
 
 
 def is_change(word):
     """Tell whether the first word of a command is that of a change."""
-    return word in CHANGES
+    return word in CHANGES or word in EDITS
 
 
 def changed(kept, word, words):
     """Return what is kept behind a change."""
-    change = CHANGES[word]
-    return change(kept, words)
+    if word in CHANGES:
+        change = CHANGES[word]
+        return change(kept, words)
+    name = words[0]
+    draft = draft_named(kept, name).copy()
+    edit = EDITS[word]
+    edit(draft, words[1:])
+    return {**kept, name: draft}

@@ -1,7 +1,9 @@
 """The errors of parameters that functions of several files have in common."""
 
+from calledmidway.books import check_book
 from calledmidway.errors import InvalidForm, InvalidTime, UnknownThing
 from calledmidway.forms import Form
+from calledmidway.parts import check_scene
 from calledmidway.ratios import as_ratio, is_number
 
 
@@ -29,3 +31,15 @@ def check_form(book, form):
     for thing in form.live():
         if thing not in book.things():
             raise UnknownThing(thing)
+
+
+def check_book_and_scene(book, scene):
+    """InvalidBook unless this is a Book; then UnknownScene unless the scene is one of it."""
+    check_book(book)
+    check_scene(book.scenes(), scene)
+
+
+def check_book_and_form(book, form):
+    """InvalidBook unless this is a Book; then the errors of a form that is to be one of the book."""
+    check_book(book)
+    check_form(book, form)

@@ -76,20 +76,28 @@ class Draft:
         check_sizes(len(self._things), len(motions))
         self._change(motions, arrows, first, resting)
 
-    def __iadd__(self, other):
+    def add_arrow(self, value):
+        """Let the draft have an arrow more."""
         motions, arrows, first, resting = self._steps[-1]
-        if not is_arrow(motions, other):
-            raise InvalidArrow(other)
-        if other in arrows:
-            raise ArrowTaken(other)
-        self._change(motions, sorted([*arrows, other]), first, resting)
+        if not is_arrow(motions, value):
+            raise InvalidArrow(value)
+        if value in arrows:
+            raise ArrowTaken(value)
+        self._change(motions, sorted([*arrows, value]), first, resting)
+
+    def bar_arrow(self, value):
+        """Let an arrow go."""
+        motions, arrows, first, resting = self._steps[-1]
+        if not is_arrow(motions, value) or value not in arrows:
+            raise UnknownArrow(value)
+        self._change(motions, [arrow for arrow in arrows if arrow != value], first, resting)
+
+    def __iadd__(self, other):
+        self.add_arrow(other)
         return self
 
     def __isub__(self, other):
-        motions, arrows, first, resting = self._steps[-1]
-        if not is_arrow(motions, other) or other not in arrows:
-            raise UnknownArrow(other)
-        self._change(motions, [arrow for arrow in arrows if arrow != other], first, resting)
+        self.bar_arrow(other)
         return self
 
     @property

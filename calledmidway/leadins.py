@@ -1,6 +1,7 @@
 """Lead-ins: how scenes are reached from the first one."""
 
 from calledmidway.books import check_book
+from calledmidway.checks import check_book_and_scene
 from calledmidway.parts import check_scene
 from calledmidway.runs import Run
 
@@ -26,8 +27,7 @@ def ways_on(book, start, kept):
 
 def lead_in(book, scene):
     """Return the least of the shortest lists of scenes that lead to a scene, or None."""
-    check_book(book)
-    check_scene(book.scenes(), scene)
+    check_book_and_scene(book, scene)
     return ways_on(book, book.first, []).get(scene)
 
 
@@ -54,7 +54,6 @@ def idle_scenes(book):
 
 def can_follow(book, one, other):
     """Tell whether an arrow leads from a reached scene to another one."""
-    check_book(book)
-    check_scene(book.scenes(), one)
+    check_book_and_scene(book, one)
     check_scene(book.scenes(), other)
     return (one, other) in book and one in book.reached()

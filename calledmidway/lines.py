@@ -2,7 +2,6 @@
 
 from calledmidway.books import Book
 from calledmidway.legs import calls_of, followed, refusal
-from calledmidway.parts import is_one_of
 from calledmidway.ratios import is_name
 from calledmidway.runs import Run
 from calledmidway.words import integer_of, length_of, time_of
@@ -109,7 +108,7 @@ class RunLines:
     def take(self, line):
         """Tell whether a right text can go on with a line, and take it then."""
         words = line.split(" ")
-        if len(words) != 3 or words[0] != "call" or not is_one_of(self._book.scenes(), words[1]):
+        if len(words) != 3 or words[0] != "call":
             return False
         wait = time_of(words[2])
         if wait is None or refusal(self._book, self._legs, words[1]) is not None:

@@ -4,7 +4,7 @@ from itertools import combinations
 
 from calledmidway.books import Book, check_book
 from calledmidway.bounds import greatest, keeps
-from calledmidway.checks import check_form, is_form_of
+from calledmidway.checks import is_form_of
 from calledmidway.errors import InvalidMends, InvalidWishes, NotAllowed, TooMany
 from calledmidway.parts import is_list, is_one_of, is_pair
 from calledmidway.ratios import as_ratio, is_number
@@ -20,7 +20,7 @@ def _is_mend(book, value):
         return False
     word, names = value[0], value[1:]
     if is_one_of(("bar",), word):
-        return len(names) == 2 and names in book
+        return names in book
     if is_one_of(("rest",), word):
         return len(names) == 1 and is_one_of(book.scenes(), names[0]) and names[0] not in book.resting
     return False
@@ -169,7 +169,5 @@ def least_mends(book, wishes, allowed):
 
 def needed_arrows(book, form):
     """Return the sorted list of the arrows without which the greatest value of a form is less."""
-    check_book(book)
-    check_form(book, form)
     value = greatest(book, form)
     return [arrow for arrow in book.arrows() if greatest(book - arrow, form).is_below(value)]

@@ -1,10 +1,10 @@
 """Shares: how much of its way each thing has gone, with even ways and with ways that nobody knows."""
 
 from calledmidway.books import check_book
-from calledmidway.checks import as_time, check_form
+from calledmidway.checks import as_time, check_book_and_scene, check_form
 from calledmidway.errors import InvalidCalls, InvalidKind, InvalidShares, NoArrow, NotAllowed, TooEarly
 from calledmidway.motions import form_by, place_by, shares_behind
-from calledmidway.parts import check_scene, is_list, is_one_of, is_pair
+from calledmidway.parts import is_list, is_one_of, is_pair
 from calledmidway.ratios import Ratio, as_ratio, is_number
 from calledmidway.runs import check_run
 
@@ -68,8 +68,7 @@ def _are_right(book, scene, kind, value):
 
 def are_shares(book, scene, kind, value):
     """Tell whether any value is right shares at a scene for a kind of ways."""
-    check_book(book)
-    check_scene(book.scenes(), scene)
+    check_book_and_scene(book, scene)
     check_kind(kind)
     return _are_right(book, scene, kind, value)
 
@@ -92,8 +91,7 @@ def _corners_of_own(book):
 
 def corner_shares(book, scene, kind):
     """Return the list of the right shares with 0 and 1 alone, for one unknown way or for own ways."""
-    check_book(book)
-    check_scene(book.scenes(), scene)
+    check_book_and_scene(book, scene)
     check_kind(kind)
     # With even ways the shares of things on their way matter, too.
     if kind == "even":
@@ -103,15 +101,13 @@ def corner_shares(book, scene, kind):
 
 def shares_at(book, scene, wait):
     """Return the shares that are gone with even ways a time behind a call of a scene."""
-    check_book(book)
-    check_scene(book.scenes(), scene)
+    check_book_and_scene(book, scene)
     return shares_behind(book, scene, as_time(wait))
 
 
 def passed_by(book, scene, shares, form):
     """Return the form whose value is that of the form behind a call of a scene when these shares are gone."""
-    check_book(book)
-    check_scene(book.scenes(), scene)
+    check_book_and_scene(book, scene)
     if not _has_shares(book, shares):
         raise InvalidShares(None)
     check_form(book, form)
@@ -159,7 +155,6 @@ class ShareRun:
     def of_run(cls, run, kind):
         """Return the share run of the calls of a run."""
         check_run(run)
-        check_kind(kind)
         return ShareRun(run.book, kind, [(scene, shares_behind(run.book, scene, wait)) for scene, wait in run.calls()])
 
     @property

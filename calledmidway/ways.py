@@ -1,7 +1,6 @@
 """Ways that nobody knows: the greatest values that are seen with them, and papers for these."""
 
-from calledmidway.books import check_book
-from calledmidway.checks import check_form
+from calledmidway.checks import check_book_and_form
 from calledmidway.closings import is_table, table_of
 from calledmidway.motions import shares_behind
 from calledmidway.ratios import as_ratio
@@ -10,8 +9,7 @@ from calledmidway.summits import summit_of
 
 
 def _check(book, form, kind):
-    check_book(book)
-    check_form(book, form)
+    check_book_and_form(book, form)
     check_kind(kind)
 
 
@@ -36,8 +34,7 @@ def peak_by(book, form, kind):
 
 def _limit(book, form, bound, kind):
     """Return the bound as a Ratio; the errors come in the sequence of the parameters."""
-    check_book(book)
-    check_form(book, form)
+    check_book_and_form(book, form)
     limit = as_ratio(bound)
     check_kind(kind)
     return limit

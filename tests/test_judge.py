@@ -15,7 +15,7 @@ from calledmidway.ways import greatest_by, peak_by, table_by
 from tests.model import GAP, example_book, full_model, random_form, random_generator, random_model
 from tests.test_corners import STRANGE
 from tests.test_mends import ALLOWED, NO_MENDS, some_mends
-from tests.test_planes import square, still_book
+from tests.test_planes import pairs_of_planes, square, still_book
 from tests.test_shares import NO_KINDS
 from tests.values import NO_FORMS, NO_LISTS, NO_NUMBERS, Like, Other, told
 
@@ -252,23 +252,9 @@ class PlanesPaperTest(PaperCase):
         self.one, self.other = square(Ratio(1), Ratio(2)), square(Ratio(0), Ratio(3))
         self.claim = ("within", self.one, self.other)
 
-    def planes(self, number, many):
-        rng = random_generator(number)
-        for _ in range(many):
-            model, more = random_model(rng, 3, 4, 4), random_model(rng, 3, 4, 6)
-            one = Plane(model.book(), random_form(rng, model.things), random_form(rng, model.things))
-            other = Plane(more.book(), random_form(rng, more.things), random_form(rng, more.things))
-            yield one, other
-            yield other, one
-            yield one, one
-            yield one, Plane(other.book, other.first * 9, other.second * 9)
-            yield Plane(one.book, one.first, one.first), other
-            yield Plane(one.book, Form(), Form(None, 1)), other
-            yield Plane(one.book, one.first, one.second + TINY), one
-
     def test_within_and_beyond(self):
         seen = set()
-        for one, other in self.planes(611, 20):
+        for one, other in pairs_of_planes(611, 14):
             within = is_within(one, other)
             if len(other.corners()) > 2:
                 found = self.assert_paper(("within", one, other), within)

@@ -46,6 +46,27 @@ def square(low, high):
     return Plane(still_book(points), D * (high - low) + low, L * (high - low) + low)
 
 
+def pairs_of_planes(number, many):
+    """Pairs of planes: of one book, of books with other things, within one another, and near that."""
+    rng = random_generator(number)
+    for _ in range(many):
+        model, more = random_model(rng, 3, 4, 4), random_model(rng, 3, 4, 6)
+        one = Plane(model.book(), random_form(rng, model.things), random_form(rng, model.things))
+        other = Plane(more.book(), random_form(rng, more.things), random_form(rng, more.things))
+        yield one, other
+        yield other, one
+        yield one, one
+        yield one, Plane(one.book, one.first * 2, one.second * 2)
+        yield one, Plane(one.book, one.second, one.first * 3)
+        yield Plane(one.book, one.first, one.second + TINY), one
+        yield one, Plane(other.book, other.first * 9, other.second * 9)
+        yield Plane(one.book, Form(None, 1), Form(None, -1)), Plane(other.book, other.first * 3, other.second * 3)
+        yield one, Plane(other.book, Form(None, 1), Form(None, -1))
+        yield one, Plane(one.book, one.first, one.first)
+        yield Plane(one.book, one.first, one.first), Plane(other.book, other.first * 2, other.first * 2)
+        yield Plane(one.book, one.first, one.first * 2), square(Ratio(-BIG), Ratio(BIG))
+
+
 class HullTest(unittest.TestCase):
     def assert_plane(self, book, first, second, expected=None):
         found = Plane(book, first, second)
@@ -211,7 +232,8 @@ class PlaneTest(unittest.TestCase):
     def test_equality(self):
         found = plane()
         self.assertTrue(found == plane() and not found != plane())
-        for other in (plane(D, L + 1), plane(D, D), plane(L, D), plane(D, L, example_book(["open"])),
+        for other in (plane(D, L + 1), plane(D + 1, L), plane(D, D), plane(L, L), plane(L, D),
+                      plane(D, L, example_book(["open"])),
                       plane(D, L, example_book().moved("d", 1, 1)), None, 0, (example_book(), D, L), Other(),
                       example_book(), D, found.corners()):
             self.assertTrue(found != other and not found == other)
@@ -330,26 +352,6 @@ class PlaneTest(unittest.TestCase):
 
 
 class TwoPlanesTest(unittest.TestCase):
-    def planes(self, number, many):
-        """Pairs of planes: of one book, of books with other things, within one another, and near that."""
-        rng = random_generator(number)
-        for _ in range(many):
-            model, more = random_model(rng, 3, 4, 4), random_model(rng, 3, 4, 6)
-            one = Plane(model.book(), random_form(rng, model.things), random_form(rng, model.things))
-            other = Plane(more.book(), random_form(rng, more.things), random_form(rng, more.things))
-            yield one, other
-            yield other, one
-            yield one, one
-            yield one, Plane(one.book, one.first * 2, one.second * 2)
-            yield one, Plane(one.book, one.second, one.first * 3)
-            yield Plane(one.book, one.first, one.second + TINY), one
-            yield one, Plane(other.book, other.first * 9, other.second * 9)
-            yield Plane(one.book, Form(None, 1), Form(None, -1)), Plane(other.book, other.first * 3, other.second * 3)
-            yield one, Plane(other.book, Form(None, 1), Form(None, -1))
-            yield one, Plane(one.book, one.first, one.first)
-            yield Plane(one.book, one.first, one.first), Plane(other.book, other.first * 2, other.first * 2)
-            yield Plane(one.book, one.first, one.first * 2), square(Ratio(-BIG), Ratio(BIG))
-
     def assert_mixes(self, one, other, found):
         corners, ends = plain_points(other.corners()), plain_points(one.corners())
         self.assertEqual((found.__class__, len(found)), (list, len(ends)))
@@ -365,7 +367,7 @@ class TwoPlanesTest(unittest.TestCase):
 
     def test_there_are_mixes_just_if_there_is_no_parting(self):
         seen = set()
-        for one, other in self.planes(231, 40):
+        for one, other in pairs_of_planes(231, 40):
             within = all(is_inside(plain_points(other.corners()), corner) for corner in plain_points(one.corners()))
             self.assertIs(is_within(one, other), within)
             found, parted = mixes(one, other), parting(one, other)
@@ -399,6 +401,9 @@ class TwoPlanesTest(unittest.TestCase):
             self.assertIsNotNone(parting(stretch, lone))
         self.assertEqual(mixes(point, stretch), [[Ratio(1, 2), Ratio(1, 2)]])
         self.assertEqual(mixes(point, point), [[Ratio(1)]])
+        level = plane(D, Form(None, 3))
+        self.assertEqual(mixes(plane(Form(None, 25), Form(None, 3)), level), [[Ratio(3, 4), Ratio(1, 4)]])
+        self.assertIsNone(mixes(plane(Form(None, 25), Form(None, 4)), level))
         upright = plane(Form(None, 3), D)
         self.assertEqual(mixes(plane(Form(None, 3), Form(None, 25)), upright), [[Ratio(3, 4), Ratio(1, 4)]])
         self.assertIsNone(mixes(plane(Form(None, 3), Form(None, 101)), upright))

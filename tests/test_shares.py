@@ -330,7 +330,8 @@ class ShareRunTest(unittest.TestCase):
         book, shares = example_book(), {"d": 1, "l": 0}
         calls = [("open", shares), ("shut", shares)]
         run = ShareRun(book, "own", calls)
-        before = run.calls()
+        before = [(scene, {"d": Ratio(1), "l": Ratio(0)}) for scene in ("open", "shut")]
+        self.assertEqual(run.calls(), before)
         shares["d"] = 0
         calls.pop()
         self.assertEqual(run.calls(), before)

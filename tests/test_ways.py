@@ -250,7 +250,8 @@ class TableByTest(unittest.TestCase):
             self.assertIs(is_table_by(book, D, 1, kind, rows), True)
             for value in [rows * 2, rows + [("z", D, 1)] * 2, [("a", D, True)], [["a", D, 1]], [("a", D)],
                           [("a", D, 1, 1)], rows + [("x", D, 1)], rows + [("z", L, 1)], rows + [("z", D + 1, 1)],
-                          rows + [("z", D, None)], rows + [None], [("a", D + 1, 2)], rows + [(Like(), D, 1)], rows + [("z", Like(), 1)],
+                          rows + [("z", D, None)], rows + [None], [("a", D + 1, 2)], rows + [(Like(), D, 1)],
+                          rows + [("z", Like(), 1)],
                           rows + [("z", D, Like())], [rows]]:
                 self.assertIs(is_table_by(book, D, BIG, kind, value), False)
             for value in NO_LISTS + [Like(), book, {"a": rows}]:
