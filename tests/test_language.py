@@ -19,6 +19,12 @@ BUILTINS = set("""
     Exception ValueError TypeError KeyError IndexError LookupError ZeroDivisionError ArithmeticError OverflowError
     RuntimeError NotImplementedError AttributeError StopIteration NotImplemented object
 """.split())
+METHODS = set("""
+    append clear copy count endswith extend find get index insert isalnum isalpha isdigit islower isspace isupper items
+    join keys ljust lower lstrip partition pop remove replace reverse rfind rjust rpartition rsplit rstrip setdefault
+    split splitlines startswith strip update upper values zfill bit_length title capitalize swapcase casefold center
+    expandtabs removeprefix removesuffix rindex isascii isdecimal isnumeric istitle isidentifier isprintable
+""".split())
 
 
 def texts():
@@ -134,6 +140,29 @@ class LanguageTest(unittest.TestCase):
         self.assertEqual(properties & methods, set())
         self.assertEqual(methods & attributes, set())
         self.assertEqual(properties & attributes, set())
+
+    def test_methods_are_own_ones_or_of_the_subset(self):
+        nodes = [node for tree in self.trees.values() for node in ast.walk(tree)]
+        own = {node.name for node in nodes if isinstance(node, ast.FunctionDef)}
+        for name, tree in self.trees.items():
+            for node in ast.walk(tree):
+                if isinstance(node, ast.Call) and isinstance(node.func, ast.Attribute):
+                    self.assertIn(node.func.attr, METHODS | own, (name, node.lineno))
+
+    def test_targets_are_not_in_square_brackets(self):
+        for name, tree in self.trees.items():
+            for node in ast.walk(tree):
+                self.assertFalse(isinstance(node, ast.List) and isinstance(node.ctx, ast.Store), name)
+
+    def test_tables_contain_functions_of_their_own_file_only(self):
+        for name, tree in self.trees.items():
+            above = set()
+            for node in tree.body:
+                if isinstance(node, ast.FunctionDef):
+                    above.add(node.name)
+                elif isinstance(node, ast.Assign):
+                    told = {part.id for part in ast.walk(node.value) if isinstance(part, ast.Name)}
+                    self.assertLessEqual(told, above, (name, node.lineno))
 
     def test_no_floats_and_no_division(self):
         for name, tree in self.trees.items():
